@@ -1,0 +1,1 @@
+"""What can be left out: runs and what they reach."""
