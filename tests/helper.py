@@ -31,14 +31,8 @@ def reach(entry):
 
 def ask(*calls):
     """The answers to calls on one new object, each as a list of its own."""
-    told = answers([number for call in calls for number in call])
-    found = []
-    place = 0
-    while place < len(told):
-        behind = place + 1 + told[place]
-        found.append(told[place + 1:behind])
-        place = behind
-    assert place == len(told) and len(found) == len(calls), told
+    found = lists(answers([number for call in calls for number in call]))
+    assert len(found) == len(calls), found
     return found
 
 
