@@ -73,6 +73,36 @@ class Program:
             return self.numbers[statement.name]
         return self.numbers.get(made_name(statement, words))
 
+    def names_made(self, part):
+        """The unlike names that a part's makes make, in whatever assignment, also in any when."""
+        statements = statements_within(self.parts[part].body, None)
+        makes = [statement for statement in statements if isinstance(statement, Make)]
+        found = {}
+        for words in self.assignments:
+            for make in makes:
+                found[made_name(make, words)] = True
+        return list(found)
+
+    def size_of(self, parts):
+        """The sizes of these parts together."""
+        return sum([self.parts[part].size for part in parts])
+
+
+def statements_within(body, words):
+    """The statements of a body and of the whens in it.
+
+    With an assignment's words only of the whens that hold in it, with None of all.
+    """
+    found = []
+    bodies = [body]
+    while bodies:
+        statements = bodies.pop()
+        for statement in statements:
+            found.append(statement)
+            if isinstance(statement, When) and (words is None or statement.holds(words)):
+                bodies.append(statement.body)
+    return found
+
 
 def made_name(make, words):
     """The name that a make makes in an assignment with these words."""

@@ -1,7 +1,6 @@
 """What an entry reaches: exactly, by conditions, and by all branches."""
 
-from keepparts.program import Say, When
-from keepparts.runs import run_entry
+from keepparts.program import Call, Make, statements_within
 
 
 class Reached:
@@ -10,16 +9,29 @@ class Reached:
     Which part leads straight to which is found once, as many calls may ask for it.
     """
 
-    def __init__(self, program):
+    def __init__(self, program, full_runs):
         self.program = program
+        self.full_runs = full_runs
         self.tables_by_conditions = [link_table(program, words, False) for words in program.assignments]
         self.tables_by_branches = [link_table(program, words, True) for words in program.assignments]
+
+    def by_one(self, entry):
+        """What an entry reaches: exactly, by conditions, and by all branches."""
+        return [self.exactly(entry), self.by_conditions(entry), self.by_branches(entry)]
+
+    def by_any(self):
+        """What some entry reaches, in the same three ways."""
+        found = [[], [], []]
+        for entry in range(len(self.program.entries)):
+            for way, parts in enumerate(self.by_one(entry)):
+                found[way].extend(parts)
+        return [sorted(set(parts)) for parts in found]
 
     def exactly(self, entry):
         """The parts that are entered in some run of the entry, in order."""
         found = []
         for assignment in range(len(self.program.assignments)):
-            found.extend(run_entry(self.program, entry, assignment, []).entered)
+            found.extend(self.full_runs.full_run(entry, assignment).entered)
         return sorted(set(found))
 
     def by_conditions(self, entry):
@@ -43,17 +55,11 @@ def link_table(program, words, any_when):
 def links(program, body, words, any_when):
     """The parts that these statements lead straight to; with any_when also where no when holds."""
     found = []
-    bodies = [body]
-    while bodies:
-        statements = bodies.pop()
-        for statement in statements:
-            if isinstance(statement, When):
-                if any_when or statement.holds(words):
-                    bodies.append(statement.body)
-            elif not isinstance(statement, Say):
-                part = program.meant(statement, words)
-                if part is not None and part not in found:
-                    found.append(part)
+    for statement in statements_within(body, None if any_when else words):
+        if isinstance(statement, (Call, Make)):
+            part = program.meant(statement, words)
+            if part is not None and part not in found:
+                found.append(part)
     return found
 
 

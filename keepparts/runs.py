@@ -18,6 +18,28 @@ def run_entry(program, entry, assignment, left_out):
     return run
 
 
+def alike(one, other):
+    """Tells if two runs say the same and end likewise."""
+    return one.said == other.said and one.ending == other.ending
+
+
+class FullRuns:
+    """The runs of a program with no part left out.
+
+    Each is done once, when it is asked for first, as many calls may ask for it.
+    """
+
+    def __init__(self, program):
+        self.program = program
+        self.known = {}
+
+    def full_run(self, entry, assignment):
+        """The run of an entry and an assignment, each by its number."""
+        if (entry, assignment) not in self.known:
+            self.known[(entry, assignment)] = run_entry(self.program, entry, assignment, [])
+        return self.known[(entry, assignment)]
+
+
 class Run:
     """A run: how it ends, how many statements are done, what is said, which parts are entered.
 

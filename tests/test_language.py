@@ -52,6 +52,24 @@ def nodes(wanted):
                 yield f"{path.name}:{getattr(node, 'lineno', '?')}", node
 
 
+def with_parents():
+    """Each node with the file's name and tree, and with what it stands in, from near to far."""
+    for path, text in sources():
+        tree = ast.parse(text)
+        waiting = [(tree, [])]
+        while waiting:
+            node, around = waiting.pop()
+            yield f"{path.name}:{getattr(node, 'lineno', '?')}", tree, node, around
+            waiting.extend((child, [node] + around) for child in ast.iter_child_nodes(node))
+
+
+def called(node):
+    """The name of what is called: a name's own, or a method's behind its dot; else None."""
+    if not isinstance(node, ast.Call):
+        return None
+    return node.func.attr if isinstance(node.func, ast.Attribute) else node.func.id
+
+
 def top_names(tree):
     """What a file's top binds by itself: defs, classes, values."""
     found = []
@@ -172,6 +190,111 @@ class Code(unittest.TestCase):
         for place, node in nodes(ast.Call):
             if isinstance(node.func, ast.Attribute):
                 self.assertIn(node.func.attr, methods | METHODS, place)
+
+
+WALKED = ("zip", "enumerate", "reversed", "range", "items", "keys", "values")
+WALKERS = ("list", "tuple", "dict", "sorted", "sum", "any", "all", "enumerate", "zip", "min", "max")
+READERS = ("len", "list", "dict", "tuple", "sorted", "min", "max", "sum")
+CHANGES = ("append", "clear", "extend", "insert", "pop", "remove", "reverse", "setdefault", "update")
+KEYWORDS = {"sorted": "key reverse", "min": "key default", "max": "key default", "sum": "start", "enumerate": "start",
+            "zip": "strict"}
+
+
+class Narrower(unittest.TestCase):
+    """What can be seen of L15 to L28."""
+
+    def test_15_what_a_files_top_holds_is_only_read(self):
+        for place, tree, node, around in with_parents():
+            held = {one.targets[0].id: one.value for one in tree.body if isinstance(one, ast.Assign)}
+            for value in held.values():
+                within = list(ast.walk(value))[1:]
+                self.assertFalse(any(isinstance(one, (ast.List, ast.Dict, ast.Set)) for one in within), place)
+            if isinstance(node, ast.Name) and isinstance(held.get(node.id), (ast.List, ast.Dict, ast.Tuple)):
+                near = around[0]
+                reads = isinstance(near, (ast.For, ast.comprehension, ast.Compare)) or called(near) in READERS
+                reads = reads or isinstance(near, ast.Subscript) and isinstance(near.ctx, ast.Load)
+                reads = reads or isinstance(near, ast.Attribute) and near.attr in ("get", "index", "count")
+                self.assertTrue(reads or isinstance(node.ctx, ast.Store), place)
+
+    def test_15_names_within_are_no_classes_and_no_imports(self):
+        for place, tree, node, around in with_parents():
+            taken = {one.name for one in tree.body if isinstance(one, ast.ClassDef)}
+            taken |= {name.name for one in tree.body if isinstance(one, ast.ImportFrom) for name in one.names}
+            if isinstance(node, ast.arg) or isinstance(node, ast.Name) and isinstance(node.ctx, ast.Store):
+                name = node.arg if isinstance(node, ast.arg) else node.id
+                self.assertNotIn(name, taken, place)
+                self.assertFalse(hasattr(builtins, name), place)
+
+    def test_18_where_a_class_stands(self):
+        classes = {node.name for _, node in nodes(ast.ClassDef)}
+        for place, tree, node, around in with_parents():
+            if isinstance(node, ast.Name) and node.id in classes:
+                near = around[1] if isinstance(around[0], ast.Tuple) else around[0]
+                stands = isinstance(near, (ast.ClassDef, ast.ExceptHandler, ast.Raise)) or called(near) == "isinstance"
+                self.assertTrue(stands or isinstance(near, ast.Call) and near.func is node, place)
+
+    def test_18_no_method_twice(self):
+        for place, node in nodes(ast.ClassDef):
+            methods = [one.name for one in node.body[1:]]
+            self.assertEqual(len(set(methods)), len(methods), place)
+
+    def test_19_errors(self):
+        own = {node.name for _, node in nodes(ast.ClassDef) if node.bases} | {"KeyError", "ZeroDivisionError"}
+        for place, node in nodes(ast.ExceptHandler):
+            self.assertIn(node.type.id, own, place)
+        for place, node in nodes(ast.Raise):
+            self.assertIn(called(node.exc), own, place)
+
+    def test_22_pythons_own_are_called(self):
+        for place, tree, node, around in with_parents():
+            if isinstance(node, ast.Name) and node.id in BUILTINS:
+                stands = isinstance(around[0], ast.Call) and around[0].func is node
+                stands = stands or "isinstance" in [called(one) for one in around[:2]]
+                self.assertTrue(stands or isinstance(around[0], (ast.keyword, ast.ClassDef, ast.ExceptHandler)), place)
+            if isinstance(node, ast.Call) and node.keywords and hasattr(builtins, called(node)):
+                for keyword in node.keywords:
+                    self.assertIn(keyword.arg, KEYWORDS.get(called(node), "").split(), place)
+
+    def test_23_walked_at_once(self):
+        for place, tree, node, around in with_parents():
+            if called(node) in WALKED:
+                near = around[0]
+                at_once = isinstance(near, (ast.For, ast.comprehension)) and near.iter is node
+                at_once = at_once or called(near) in WALKERS and near.args[0] is node
+                self.assertTrue(at_once or called(near) == "zip", place)
+
+    def test_23_what_is_walked_is_not_changed(self):
+        for place, node in nodes(ast.For):
+            walked = node.iter
+            while called(walked) in WALKED:
+                walked = walked.func.value if isinstance(walked.func, ast.Attribute) else walked.args[0]
+            for row in node.body:
+                for within in ast.walk(row):
+                    if called(within) in CHANGES and isinstance(within.func, ast.Attribute):
+                        self.assertNotEqual(ast.dump(within.func.value), ast.dump(walked), place)
+                    if isinstance(within, ast.Subscript) and isinstance(within.ctx, ast.Store):
+                        self.assertNotEqual(ast.unparse(within.value), ast.unparse(walked), place)
+
+    def test_24_sets(self):
+        for place, tree, node, around in with_parents():
+            self.assertNotIsInstance(node, ast.Set, place)
+            if called(node) in ("set", "frozenset"):
+                far = [one for one in around if not isinstance(one, ast.BinOp)]
+                on_the_spot = isinstance(far[0], ast.Compare) or called(far[0]) in ("sorted", "len")
+                self.assertTrue(on_the_spot and not getattr(far[0], "keywords", []), place)
+
+    def test_27_numbers_and_texts(self):
+        for place, node in nodes(ast.BinOp):
+            self.assertNotIsInstance(node.op, ast.Pow, place)
+        for path, text in sources():
+            self.assertEqual(re.findall(r"\\[^nt\\'\"]", text), [], path.name)
+
+    def test_28_methods_with_two_underscores(self):
+        for place, node in nodes(ast.FunctionDef):
+            if node.name == "__init__":
+                self.assertEqual([one for one in ast.walk(node) if isinstance(one, ast.Return)], [], place)
+            else:
+                self.assertFalse(node.name.startswith("__"), place)
 
 
 if __name__ == "__main__":

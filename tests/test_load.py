@@ -2,9 +2,7 @@
 
 import unittest
 
-from helper import WORKED, load_answer
-
-TINY = "part a size 1 { } start a ;"
+from helper import TINY, WORKED, load_answer
 
 
 def marked(text):

@@ -1,63 +1,9 @@
-"""Promises 1, 4 and 5 over many made programs, the same ones each time."""
+"""Promises 1 to 5 over many made programs, the same ones each time."""
 
 import random
 import unittest
 
-from helper import SHOWN, ask, as_bytes, lists, load, reach, run
-
-SETTINGS = ("x", "y", "zz")
-WORDS = ("a", "b", "c", "ab")
-PARTS = ("p", "q", "a", "b", "pa", "pb", "ab", "qab", "r", "bb")
-
-
-class Maker:
-    """Makes a right program as a list of tokens."""
-
-    def __init__(self, seed):
-        self.random = random.Random(seed)
-        self.words = {}
-        for name in SETTINGS[:self.random.randint(0, 3)]:
-            self.words[name] = self.random.sample(WORDS, self.random.randint(1, 4))
-        self.parts = self.random.sample(PARTS, self.random.randint(1, 10))
-        # In each fifth program parts call later ones alone, and often, so that runs get too long.
-        self.full = seed % 5 == 0
-        self.called = self.parts
-
-    def tokens(self):
-        found = []
-        for name, words in self.words.items():
-            found += ["set", name, ":"] + self.listed(words, ",") + [";"]
-        for place, part in enumerate(self.parts):
-            self.called = self.parts[place + 1:] if self.full else self.parts
-            found += ["part", part, "size", str(self.random.randint(1, 99))] + self.body(0)
-        entries = self.random.sample(self.parts, self.random.randint(1, min(4, len(self.parts))))
-        return found + ["start"] + self.listed(entries, ",") + [";"]
-
-    def listed(self, names, separator):
-        found = [names[0]]
-        for name in names[1:]:
-            found += [separator, name]
-        return found
-
-    def body(self, whens):
-        found = ["{"]
-        lengths = (4, 5, 6) if self.full and whens == 0 else (0, 1, 1, 2, 3)
-        for _ in range(self.random.choice(lengths)):
-            found += self.statement(whens)
-        return found + ["}"]
-
-    def statement(self, whens):
-        sort = self.random.choice(("say", "call", "make", "make", "when", "when"))
-        if sort == "when" and whens < 3 and self.words:
-            name = self.random.choice(list(self.words))
-            return ["when", name, "is", self.random.choice(self.words[name])] + self.body(whens + 1)
-        if sort == "make":
-            names = list(self.words) * 3 + ["p", "q", "a", "b", "r"]
-            pieces = [self.random.choice(names) for _ in range(self.random.randint(1, 3))]
-            return ["make"] + self.listed(pieces, "+") + [";"]
-        if sort == "call" and self.called:
-            return ["call", self.random.choice(self.called), ";"]
-        return ["say", str(self.random.randint(1, 99)), ";"]
+from helper import ALL, SHOWN, ask, as_bytes, keep, lists, load, programs, reach, run
 
 
 def told_form(tokens):
@@ -70,11 +16,6 @@ def told_form(tokens):
         if depth == 0 and token in (";", "}"):
             rows.append([])
     return "".join(" ".join(row).replace(" ,", ",") + "\n" for row in rows[:-1])
-
-
-def programs():
-    for seed in range(300):
-        yield seed, Maker(seed).tokens()
 
 
 class Promises(unittest.TestCase):
@@ -133,6 +74,47 @@ class Promises(unittest.TestCase):
                     entered |= set(lists(runs[entry * loaded[4] + number][2:])[1])
                 self.assertEqual(exactly, sorted(entered), seed)
         self.assertTrue(all(unlike), unlike)
+
+    def test_1_of_some_entry_too(self):
+        for seed, tokens in programs():
+            text = " ".join(tokens)
+            told = ask(load(text), ALL)[1]
+            exactly, conditions, branches = [set(parts) for parts in lists(told[4:])]
+            self.assertTrue(exactly <= conditions <= branches, seed)
+            self.assertGreaterEqual(told[0], told[3])
+            self.assertGreaterEqual(told[3], told[2])
+            self.assertGreaterEqual(told[2], told[1])
+            reached = [lists(answer[1:]) for answer in self.asked(text)[2]]
+            for way, parts in enumerate((exactly, conditions, branches)):
+                self.assertEqual(parts, {part for lists_told in reached for part in lists_told[way]}, seed)
+
+    def test_2_all_reached_exactly_is_enough_and_more_is_too(self):
+        choice = random.Random(2)
+        for seed, tokens in programs():
+            text = " ".join(tokens)
+            loaded, told = ask(load(text), ALL)
+            enough = lists(told[4:])[0]
+            others = [number for number in range(loaded[2]) if number not in enough]
+            more = [enough + others[:length] for length in range(len(others) + 1)]
+            more += [choice.sample(parts, len(parts)) + enough for parts in more]
+            self.assertEqual([answer[0] for answer in ask(load(text), *map(keep, more))[1:]], [1] * len(more), seed)
+            self.assertEqual(ask(load(text), keep(enough))[1], [1, told[1]], seed)
+
+    def test_3_not_enough_is_shown_by_a_run(self):
+        choice = random.Random(3)
+        answered = {0: 0, 1: 0}
+        for seed, tokens in programs():
+            text = " ".join(tokens)
+            loaded = ask(load(text))[0]
+            kept = [choice.sample(range(loaded[2]), choice.randint(0, loaded[2])) for _ in range(20)]
+            for parts, told in zip(kept, ask(load(text), *map(keep, kept))[1:]):
+                answered[told[0]] += 1
+                if told[0] == 0:
+                    full = ask(load(text), run(told[1], told[2]))[1]
+                    self.assertEqual(full[0], told[3], seed)
+                    # What is left out of this run is entered in it, so it is not like the one that is told.
+                    self.assertFalse(set(lists(full[2:])[1]) <= set(parts), seed)
+        self.assertTrue(all(answered.values()), answered)
 
 
 if __name__ == "__main__":

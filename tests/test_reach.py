@@ -2,9 +2,7 @@
 
 import unittest
 
-from helper import WORKED, ask, load, reach, reach_parts
-
-FAR = 10 ** 18
+from helper import FAR, WORKED, ask, load, reach, reach_parts
 
 
 class Alike(unittest.TestCase):

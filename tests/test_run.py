@@ -2,17 +2,9 @@
 
 import unittest
 
-from helper import WORKED, ask, load, run, run_parts
+from helper import FAR, WORKED, ask, chain, load, run, run_parts
 from keepparts.grammar import read_program
 from keepparts.runs import run_entry
-
-FAR = 10 ** 18
-
-
-def chain(length, last):
-    """Parts p0, p1 .. that call one another in a row; the last one does what is told."""
-    parts = [f"part p{number} size 1 {{ call p{number + 1} ; }} " for number in range(length - 1)]
-    return "".join(parts) + f"part p{length - 1} size 1 {{ {last} }} "
 
 
 class EndsWell(unittest.TestCase):
@@ -203,7 +195,7 @@ class Refused(unittest.TestCase):
 
 
 class LeftOut(unittest.TestCase):
-    """Runs without some parts, as the calls that need them will ask for them."""
+    """Runs without some parts: what is done and entered, too, which keep does not tell."""
 
     def run_without(self, text, left_out, assignment=0):
         run_done = run_entry(read_program(list(text.encode())), 0, assignment, left_out)

@@ -2,10 +2,9 @@
 
 import unittest
 
-from helper import as_bytes, ask, load, load_answer, shown
+from helper import TINY, as_bytes, ask, load, load_answer, shown
 
 RIGHT = [1, 0, 1, 1, 1]
-TINY = "part a size 1 { } start a ;"
 
 
 def filled(length):
